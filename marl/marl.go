@@ -1,0 +1,115 @@
+// Package marl: snapshots that share, and streams of what is new: see DOC.md.
+package marl
+
+import (
+	"errors"
+	"slices"
+	"strings"
+
+	"marl/api"
+	"marl/cells"
+)
+
+// Broken is in the errors of streams that are none.
+var Broken = errors.New("a broken stream")
+
+// Volume has blocks and snapshots.
+type Volume struct {
+	pool  int
+	now   cells.Table
+	snaps []snapshot // the oldest first
+}
+
+// Sender gives a stream in pieces.
+type Sender struct{}
+
+// New makes a volume (P3).
+func New(blocks int, pool int) (*Volume, error) {
+	if blocks < 1 || blocks > api.MaxBlocks || pool < 1 || pool > api.MaxPool {
+		return nil, refuse("New", api.ErrArg)
+	}
+	return &Volume{pool: pool, now: cells.Empty(blocks)}, nil
+}
+
+// Write writes a block (P3).
+func (v *Volume) Write(block int, text string) error {
+	if !v.now.Has(block) {
+		return refuse("Write", api.ErrArg)
+	}
+	if len(text) > api.MaxText {
+		return refuse("Write", api.ErrText)
+	}
+	next := v.now.With(block, text)
+	if v.usedWith(next) > v.pool {
+		return refuse("Write", api.ErrFull)
+	}
+	v.now = next
+	return nil
+}
+
+// Read reads a block (P3).
+func (v *Volume) Read(name string, block int) (string, error) {
+	if name != "" && !isName(name) {
+		return "", refuse("Read", api.ErrName)
+	}
+	blocks, ok := v.blocksOf(name)
+	if !ok {
+		return "", refuse("Read", api.ErrNone)
+	}
+	if !blocks.Has(block) {
+		return "", refuse("Read", api.ErrArg)
+	}
+	return blocks.Text(block), nil
+}
+
+// Snap makes a snapshot (P4).
+func (v *Volume) Snap(name string) error {
+	if !isName(name) {
+		return refuse("Snap", api.ErrName)
+	}
+	if v.find(name) >= 0 {
+		return refuse("Snap", api.ErrTwice)
+	}
+	if len(v.snaps) >= api.MaxSnaps {
+		return refuse("Snap", api.ErrMany)
+	}
+	v.snaps = append(v.snaps, snapshot{name: strings.Clone(name), blocks: v.now})
+	return nil
+}
+
+// Drop takes a snapshot away (P4).
+func (v *Volume) Drop(name string) error {
+	if !isName(name) {
+		return refuse("Drop", api.ErrName)
+	}
+	place := v.find(name)
+	if place < 0 {
+		return refuse("Drop", api.ErrNone)
+	}
+	v.snaps = slices.Delete(v.snaps, place, place+1)
+	return nil
+}
+
+// Used tells how many cells are not free (P4).
+func (v *Volume) Used() int { return v.usedWith(v.now) }
+
+// List tells the snapshots (P4).
+func (v *Volume) List() []string {
+	var names []string
+	for _, s := range v.snaps {
+		names = append(names, s.name)
+	}
+	return names
+}
+
+// Send makes a sender of a snapshot (P5).
+func (v *Volume) Send(from string, to string) (*Sender, error) { return nil, nil }
+
+// Next gives the next bytes (P5).
+func (s *Sender) Next(most int) string { return "" }
+
+// Receive makes a snapshot of a stream (P6).
+func (v *Volume) Receive(stream string, base string, name string) error { return nil }
+
+// Roll goes back to a snapshot (P7).
+func (v *Volume) Roll(name string) error { return nil }
