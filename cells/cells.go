@@ -37,6 +37,15 @@ func (t Table) Text(block int) string {
 	return ""
 }
 
+// Texts tells the texts of all blocks.
+func (t Table) Texts() []string {
+	texts := make([]string, len(t.cells))
+	for block := range texts {
+		texts[block] = t.Text(block)
+	}
+	return texts
+}
+
 // With makes the table in which a block that is there has the text: in a new
 // cell, unless it is the text that the block has already.
 func (t Table) With(block int, text string) Table {

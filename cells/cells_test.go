@@ -1,6 +1,9 @@
 package cells
 
-import "testing"
+import (
+	"slices"
+	"testing"
+)
 
 func TestEmptyTable(t *testing.T) {
 	table := Empty(3)
@@ -27,6 +30,18 @@ func TestWithLeavesTheOldTable(t *testing.T) {
 	}
 	if next.Text(0) != "b" || next.Text(1) != "c" {
 		t.Errorf("the new table has %q, %q", next.Text(0), next.Text(1))
+	}
+}
+
+func TestTextsAreTheCallers(t *testing.T) {
+	table := Empty(3).With(2, "b").With(0, "a")
+	texts := table.Texts()
+	if want := []string{"a", "", "b"}; !slices.Equal(texts, want) {
+		t.Errorf("Texts = %q, want %q", texts, want)
+	}
+	texts[0], texts[1] = "x", "y"
+	if again := table.Texts(); again[0] != "a" || again[1] != "" || table.Text(0) != "a" {
+		t.Errorf("Texts = %q once a list of it was written", again)
 	}
 }
 

@@ -52,9 +52,11 @@ func TestErrorsTellTheCallAndTheReason(t *testing.T) {
 	snap(t, v, "a")
 	_, newRefused := marl.New(0, 0)
 	_, readRefused := v.Read("b", 0)
+	_, sendRefused := v.Send("a", "a")
 	told := []string{
 		newRefused.Error(),
 		readRefused.Error(),
+		sendRefused.Error(),
 		v.Write(0, "1234567").Error(),
 		v.Write(1, "b").Error(),
 		v.Snap("").Error(),
@@ -66,6 +68,7 @@ func TestErrorsTellTheCallAndTheReason(t *testing.T) {
 	want := []string{
 		"marl: New: a number that may not be",
 		"marl: Read: no such snapshot",
+		"marl: Send: the older one is not older",
 		"marl: Write: a text that is too long",
 		"marl: Write: no cell left",
 		"marl: Snap: no name",

@@ -20,9 +20,6 @@ type Volume struct {
 	snaps []snapshot // the oldest first
 }
 
-// Sender gives a stream in pieces.
-type Sender struct{}
-
 // New makes a volume (P3).
 func New(blocks int, pool int) (*Volume, error) {
 	if blocks < 1 || blocks > api.MaxBlocks || pool < 1 || pool > api.MaxPool {
@@ -101,12 +98,6 @@ func (v *Volume) List() []string {
 	}
 	return names
 }
-
-// Send makes a sender of a snapshot (P5).
-func (v *Volume) Send(from string, to string) (*Sender, error) { return nil, nil }
-
-// Next gives the next bytes (P5).
-func (s *Sender) Next(most int) string { return "" }
 
 // Receive makes a snapshot of a stream (P6).
 func (v *Volume) Receive(stream string, base string, name string) error { return nil }

@@ -7,6 +7,7 @@ import (
 	"testing"
 
 	"marl/api"
+	"marl/marl"
 )
 
 // model is a volume told another way: every cell that ever was has a number,
@@ -97,6 +98,41 @@ func (m *model) drop(name string) api.Code {
 	return 0
 }
 
+func (m *model) send(from, to string) (string, api.Code) {
+	if to == "" {
+		return "", api.ErrName
+	}
+	older, newer := slices.Index(m.names, from), slices.Index(m.names, to)
+	if newer < 0 || from != "" && older < 0 {
+		return "", api.ErrNone
+	}
+	if from != "" && older >= newer {
+		return "", api.ErrOrder
+	}
+	base, head := make([]held, len(m.now)), noBase
+	if from != "" {
+		base, head = m.snaps[from], "\x01"+sumText(told(m.snaps[from], nil))
+	}
+	blocks := string([]byte{byte(len(m.now))})
+	return summed("M1" + blocks + head + told(m.snaps[to], base) + "\x00"), 0
+}
+
+// told: the length and text of each block; with a base only where they are
+// other than there, and the block's number ahead of them.
+func told(l, base []held) string {
+	s := ""
+	for block, h := range l {
+		if base != nil && base[block].text == h.text {
+			continue
+		}
+		if base != nil {
+			s += string([]byte{byte(block + 1)})
+		}
+		s += string([]byte{byte(len(h.text))}) + h.text
+	}
+	return s
+}
+
 func (m *model) look() state {
 	s := state{names: m.names, used: len(m.owners)}
 	for _, l := range append([][]held{m.now}, m.inOrder()...) {
@@ -117,6 +153,21 @@ func (m *model) inOrder() [][]held {
 	return l
 }
 
+// begun: a sender, and what it has yet to give.
+type begun struct {
+	sender *marl.Sender
+	left   string
+}
+
+func (b *begun) wantNext(t *testing.T, what string, most int) {
+	t.Helper()
+	want := b.left[:max(0, min(most, len(b.left)))]
+	if got := b.sender.Next(most); got != want {
+		t.Fatalf("%s: Next(%d) = %q, want %q", what, most, got, want)
+	}
+	b.left = b.left[len(want):]
+}
+
 // TestLongRuns holds volumes of many sizes against the model, call by call.
 func TestLongRuns(t *testing.T) {
 	names := []string{"a", "b", "c", "d", "e", "f", "g", "zzzz", ""}
@@ -126,13 +177,22 @@ func TestLongRuns(t *testing.T) {
 		blocks, pool := 1+r.Intn(16), 1+r.Intn(40)
 		v := create(t, blocks, pool)
 		m := &model{pool: pool, owners: map[int]int{}, now: make([]held, blocks), snaps: map[string][]held{}}
+		var senders []*begun
 		for step := range 200 {
 			what, err, want := "", error(nil), api.Code(0)
-			switch name := names[r.Intn(len(names))]; r.Intn(6) {
+			switch name := names[r.Intn(len(names))]; r.Intn(8) {
 			case 0:
 				what, err, want = "Snap "+name, v.Snap(name), m.snap(name)
 			case 1:
 				what, err, want = "Drop "+name, v.Drop(name), m.drop(name)
+			case 2, 3:
+				b, from := &begun{}, names[r.Intn(len(names))]
+				what = "Send from " + from + " to " + name
+				b.sender, err = v.Send(from, name)
+				b.left, want = m.send(from, name)
+				if want == 0 {
+					senders = append(senders, b)
+				}
 			default:
 				block, text := r.Intn(blocks+2)-1, texts[r.Intn(len(texts))]
 				what, err, want = "Write "+text, v.Write(block, text), m.write(block, text)
@@ -142,6 +202,9 @@ func TestLongRuns(t *testing.T) {
 				wantDone(t, what, err)
 			} else {
 				wantFault(t, what, err, want)
+			}
+			for _, b := range senders {
+				b.wantNext(t, what, r.Intn(6)-1)
 			}
 			if has, should := look(t, v), m.look(); !same(has, should) {
 				t.Fatalf("%s: %v, want %v", what, has, should)

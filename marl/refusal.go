@@ -34,6 +34,8 @@ func reason(code api.Code) string {
 		return "there is such a snapshot already"
 	case api.ErrMany:
 		return "too many snapshots"
+	case api.ErrOrder:
+		return "the older one is not older"
 	case api.ErrFull:
 		return "no cell left"
 	}
