@@ -24,9 +24,12 @@ func Empty(blocks int) Table {
 	return Table{cells: make([]*cell, blocks)}
 }
 
+// Size tells how many blocks there are.
+func (t Table) Size() int { return len(t.cells) }
+
 // Has tells whether there is such a block.
 func (t Table) Has(block int) bool {
-	return block >= 0 && block < len(t.cells)
+	return block >= 0 && block < t.Size()
 }
 
 // Text tells the text of a block that is there.

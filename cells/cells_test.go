@@ -7,6 +7,9 @@ import (
 
 func TestEmptyTable(t *testing.T) {
 	table := Empty(3)
+	if n := table.Size(); n != 3 {
+		t.Errorf("Size = %d, want 3", n)
+	}
 	for block, want := range map[int]bool{-1: false, 0: true, 2: true, 3: false} {
 		if table.Has(block) != want {
 			t.Errorf("Has(%d) = %v, want %v", block, !want, want)

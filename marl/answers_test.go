@@ -44,6 +44,13 @@ func TestFaultsAreTheCallers(t *testing.T) {
 	fault.Code, fault.At = api.ErrForm, 7
 	wantFault(t, "a fault of the same call", second, api.ErrNone)
 	wantFault(t, "a later fault", v.Drop("a"), api.ErrNone)
+	first, second = v.Receive("M", "", "a"), v.Receive("M", "", "a")
+	if !errors.As(first, &fault) {
+		t.Fatal("there is no fault in", first)
+	}
+	fault.Code, fault.At = api.ErrNone, 7
+	wantFaultAt(t, "a place of the same call", second, api.ErrForm, 1)
+	wantFaultAt(t, "a later place", v.Receive("M", "", "a"), api.ErrForm, 1)
 }
 
 func TestErrorsTellTheCallAndTheReason(t *testing.T) {
@@ -62,6 +69,10 @@ func TestErrorsTellTheCallAndTheReason(t *testing.T) {
 		v.Snap("").Error(),
 		v.Snap("a").Error(),
 		v.Drop("b").Error(),
+		v.Roll("b").Error(),
+		v.Receive(onNone(2)+"\x01", "", "b").Error(),
+		v.Receive(onNone(2)+"\x00abcd", "", "b").Error(),
+		v.Receive(summed(onNone(2)+"\x00"), "a", "b").Error(),
 	}
 	snap(t, v, "b", "c", "d", "e", "f")
 	told = append(told, v.Snap("g").Error())
@@ -74,6 +85,10 @@ func TestErrorsTellTheCallAndTheReason(t *testing.T) {
 		"marl: Snap: no name",
 		"marl: Snap: there is such a snapshot already",
 		"marl: Drop: no such snapshot",
+		"marl: Roll: no such snapshot",
+		"marl: Receive: no stream, at 9",
+		"marl: Receive: a stream with a wrong sum",
+		"marl: Receive: another base",
 		"marl: Snap: too many snapshots",
 	}
 	if !slices.Equal(told, want) {

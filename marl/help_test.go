@@ -46,15 +46,21 @@ func texts(t *testing.T, v *marl.Volume, name string) []string {
 
 func wantFault(t *testing.T, what string, err error, want api.Code) {
 	t.Helper()
+	wantFaultAt(t, what, err, want, 0)
+}
+
+func wantFaultAt(t *testing.T, what string, err error, want api.Code, at int) {
+	t.Helper()
 	var fault *api.Fault
 	if !errors.As(err, &fault) {
-		t.Fatalf("%s: %v, want the code %d", what, err, want)
+		t.Fatalf("%s: %v, want the code %d at %d", what, err, want, at)
 	}
-	if fault.Code != want || fault.At != 0 {
-		t.Errorf("%s: code %d at %d, want %d at 0", what, fault.Code, fault.At, want)
+	if fault.Code != want || fault.At != at {
+		t.Fatalf("%s: code %d at %d, want %d at %d", what, fault.Code, fault.At, want, at)
 	}
-	if errors.Is(err, marl.Broken) {
-		t.Errorf("%s: Broken is in the error", what)
+	broken := want == api.ErrForm || want == api.ErrSum
+	if errors.Is(err, marl.Broken) != broken {
+		t.Errorf("%s: Broken is in the error: %v, want %v", what, !broken, broken)
 	}
 	if _, bare := err.(*api.Fault); bare {
 		t.Errorf("%s: the fault is not wrapped", what)
@@ -64,8 +70,13 @@ func wantFault(t *testing.T, what string, err error, want api.Code) {
 // wantRefused: the call answers the code, and nothing changes.
 func wantRefused(t *testing.T, v *marl.Volume, what string, want api.Code, call func() error) {
 	t.Helper()
+	wantRefusedAt(t, v, what, want, 0, call)
+}
+
+func wantRefusedAt(t *testing.T, v *marl.Volume, what string, want api.Code, at int, call func() error) {
+	t.Helper()
 	before := look(t, v)
-	wantFault(t, what, call(), want)
+	wantFaultAt(t, what, call(), want, at)
 	if after := look(t, v); !same(before, after) {
 		t.Errorf("%s: refused, yet %v became %v", what, before, after)
 	}

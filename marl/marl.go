@@ -37,7 +37,7 @@ func (v *Volume) Write(block int, text string) error {
 		return refuse("Write", api.ErrText)
 	}
 	next := v.now.With(block, text)
-	if v.usedWith(next) > v.pool {
+	if used(next, v.snaps) > v.pool {
 		return refuse("Write", api.ErrFull)
 	}
 	v.now = next
@@ -64,11 +64,8 @@ func (v *Volume) Snap(name string) error {
 	if !isName(name) {
 		return refuse("Snap", api.ErrName)
 	}
-	if v.find(name) >= 0 {
-		return refuse("Snap", api.ErrTwice)
-	}
-	if len(v.snaps) >= api.MaxSnaps {
-		return refuse("Snap", api.ErrMany)
+	if err := v.mayAdd("Snap", name); err != nil {
+		return err
 	}
 	v.snaps = append(v.snaps, snapshot{name: strings.Clone(name), blocks: v.now})
 	return nil
@@ -88,7 +85,7 @@ func (v *Volume) Drop(name string) error {
 }
 
 // Used tells how many cells are not free (P4).
-func (v *Volume) Used() int { return v.usedWith(v.now) }
+func (v *Volume) Used() int { return used(v.now, v.snaps) }
 
 // List tells the snapshots (P4).
 func (v *Volume) List() []string {
@@ -99,8 +96,15 @@ func (v *Volume) List() []string {
 	return names
 }
 
-// Receive makes a snapshot of a stream (P6).
-func (v *Volume) Receive(stream string, base string, name string) error { return nil }
-
 // Roll goes back to a snapshot (P7).
-func (v *Volume) Roll(name string) error { return nil }
+func (v *Volume) Roll(name string) error {
+	if !isName(name) {
+		return refuse("Roll", api.ErrName)
+	}
+	place := v.find(name)
+	if place < 0 {
+		return refuse("Roll", api.ErrNone)
+	}
+	v.now = v.snaps[place].blocks
+	return nil
+}

@@ -1,6 +1,10 @@
 package marl
 
-import "marl/api"
+import (
+	"strconv"
+
+	"marl/api"
+)
 
 // refusal wraps the fault for which a call was refused, to name the call.
 type refusal struct {
@@ -10,18 +14,26 @@ type refusal struct {
 
 // refuse makes a fault of its own for each error: a caller gets a pointer to
 // it, and may write through that.
-func refuse(call string, code api.Code) error {
-	return &refusal{call: call, fault: &api.Fault{Code: code}}
+func refuse(call string, code api.Code) error { return refuseAt(call, code, 0) }
+
+func refuseAt(call string, code api.Code, at int) error {
+	return &refusal{call: call, fault: &api.Fault{Code: code, At: at}}
 }
 
 func (r *refusal) Error() string {
-	return "marl: " + r.call + ": " + reason(r.fault.Code)
+	return "marl: " + r.call + ": " + reason(r.fault)
 }
 
-func (r *refusal) Unwrap() error { return r.fault }
+// Unwrap has Broken beside the fault where the stream is at fault.
+func (r *refusal) Unwrap() []error {
+	if r.fault.Code == api.ErrForm || r.fault.Code == api.ErrSum {
+		return []error{r.fault, Broken}
+	}
+	return []error{r.fault}
+}
 
-func reason(code api.Code) string {
-	switch code {
+func reason(fault *api.Fault) string {
+	switch fault.Code {
 	case api.ErrArg:
 		return "a number that may not be"
 	case api.ErrText:
@@ -36,6 +48,12 @@ func reason(code api.Code) string {
 		return "too many snapshots"
 	case api.ErrOrder:
 		return "the older one is not older"
+	case api.ErrForm:
+		return "no stream, at " + strconv.Itoa(fault.At)
+	case api.ErrSum:
+		return "a stream with a wrong sum"
+	case api.ErrBase:
+		return "another base"
 	case api.ErrFull:
 		return "no cell left"
 	}

@@ -42,11 +42,23 @@ func (v *Volume) blocksOf(name string) (cells.Table, bool) {
 	return v.snaps[place].blocks, true
 }
 
-// usedWith tells USED as it would be if the volume had these blocks. Counting
+// mayAdd answers the error of a call that would add a snapshot of that name,
+// nil if one may be added.
+func (v *Volume) mayAdd(call string, name string) error {
+	if v.find(name) >= 0 {
+		return refuse(call, api.ErrTwice)
+	}
+	if len(v.snaps) >= api.MaxSnaps {
+		return refuse(call, api.ErrMany)
+	}
+	return nil
+}
+
+// used tells USED as it is if a volume has these blocks and snapshots. Counting
 // anew each time leaves no count that could go astray.
-func (v *Volume) usedWith(now cells.Table) int {
+func used(now cells.Table, snaps []snapshot) int {
 	tables := []cells.Table{now}
-	for _, s := range v.snaps {
+	for _, s := range snaps {
 		tables = append(tables, s.blocks)
 	}
 	return cells.Used(tables)

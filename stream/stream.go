@@ -25,8 +25,12 @@ func Whole(texts []string) string {
 
 // Since makes the stream of the texts with a base of as many blocks.
 func Since(base []string, texts []string) string {
-	head := []byte{firstByte, secondByte, byte(len(texts)), withBase}
-	return finish(appendSum(head, sumOfTexts(base)), base, texts)
+	return finish(headSince(base), base, texts)
+}
+
+func headSince(base []string) []byte {
+	head := []byte{firstByte, secondByte, byte(len(base)), withBase}
+	return appendSum(head, sumOfTexts(base))
 }
 
 // finish puts behind the head what is new in the texts, the end, and the sum.
